@@ -1,0 +1,1 @@
+"""Two filters in any order, judged for all filters and beams."""
