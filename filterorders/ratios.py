@@ -50,7 +50,7 @@ class Ratio:
     def __eq__(self, other):
         if isinstance(other, Ratio):
             return self._top == other._top and self._bottom == other._bottom
-        return _is_integer(other) and self._bottom == 1 and self._top == other
+        return is_whole(other) and self._bottom == 1 and self._top == other
 
     def __lt__(self, other):
         right = as_ratio(other)
@@ -86,13 +86,21 @@ class Ratio:
         return _decimal(self._top) + "/" + _decimal(self._bottom)
 
 
+def is_whole(given):
+    """Whether a value is an integer; True and False are none."""
+    return isinstance(given, int) and not isinstance(given, bool)
+
+
+def is_number(given):
+    """Whether a value is an integer or a Ratio."""
+    return isinstance(given, Ratio) or is_whole(given)
+
+
 def as_ratio(given):
     """The Ratio that is equal to a number."""
-    if isinstance(given, Ratio):
-        return given
-    if _is_integer(given):
-        return Ratio(given)
-    raise BadNumber(given)
+    if not is_number(given):
+        raise BadNumber(given)
+    return given if isinstance(given, Ratio) else Ratio(given)
 
 
 def sign(number):
@@ -101,10 +109,6 @@ def sign(number):
     if top == 0:
         return 0
     return 1 if top > 0 else -1
-
-
-def _is_integer(given):
-    return isinstance(given, int) and not isinstance(given, bool)
 
 
 def _has_only_digits(text):

@@ -33,7 +33,7 @@ def reduced(terms):
     shared = 0
     for term in terms:
         shared = gcd(shared, term)
-    return [term // shared for term in terms]
+    return [term // shared for term in terms] if shared > 1 else list(terms)
 
 
 def whole_slope(terms):

@@ -2,10 +2,14 @@
 
 import unittest
 
-from filterorders.errors import BadRoot, ByZero
+from filterorders.bounds import at_most, counter, never_negative, reading, shape, strength_at_most
+from filterorders.errors import BadRoot, BadText, ByZero, NotMirror
+from filterorders.formulas import Formula, opposite
+from filterorders.pieces import alike, angles, counts, pair_of, pieces, traces, turn_table, turned, unlike
 from filterorders.polynomials import Polynomial, common, single
 from filterorders.ratios import Ratio, as_ratio, sign
 from filterorders.roots import Root, angle, cells, nowhere_below, root_count, roots
+from filterorders.tables import Table, filter_of, is_filter, joined, meet, parting, plane, same, value
 
 
 class ExamplesTest(unittest.TestCase):
@@ -42,6 +46,54 @@ class ExamplesTest(unittest.TestCase):
         self.assertEqual(found, (True, False, "9/25"))
         with self.assertRaises(BadRoot):
             Root(square, -1, 1)
+
+    def test_formulas(self):
+        p, q = Formula({"p": 1}), Formula({"q": 1})
+        both = p * q + q * p
+        found = both.text(), (both * p).text(), both.is_mirror(), (p * q).mirror().text(), (both * both).degree()
+        self.assertEqual(found, ("pq + qp", "qp + pqp", True, "qp", 4))
+        found = Formula.read("-1/2 + 3 p") == Formula({"pp": 3, "": Ratio(-1, 2)}), opposite(p).text()
+        found += (opposite(p) * p == Formula({}),)
+        self.assertEqual(found, (True, "1 - p", True))
+        self.assertEqual(Formula.read("-1/2 + 3 p - q + 2/3 pqp").text(), "-1/2 + 3 p - q + 2/3 pqp")
+        with self.assertRaises(BadText):
+            Formula.read("1 p")
+
+    def test_tables(self):
+        p, q = plane(Ratio(1, 2))
+        found = [[number.text() for number in row] for row in q.rows()], is_filter(q), meet(p, q).trace() == 0
+        self.assertEqual(found, ([["9/25", "12/25"], ["12/25", "16/25"]], True, True))
+        self.assertEqual(joined(p, q), Table.unit(2))
+        found = q == filter_of(2, [(3, 4)]), value(Formula.read("pqp"), p, q).rows()[0][0].text()
+        self.assertEqual(found, (True, "9/25"))
+        self.assertEqual([number.text() for number in (p * q).sent([5, 0])], ["9/5", "0"])
+        found = same(Formula.read("pq - pqp"), Formula.read("0")), parting(Formula.read("pq"), Formula.read("pq"))
+        self.assertEqual(found, (False, None))
+        self.assertIs(value(Formula.read("pq - qp"), p, q) == Table([[0, 0], [0, 0]]), False)
+
+    def test_pieces(self):
+        p, q = filter_of(3, [(1, 0, 0)]), filter_of(3, [(1, 1, 0), (0, 0, 1)])
+        self.assertEqual(counts(p, q), {"both": 0, "p": 0, "q": 1, "none": 0, "planes": 1})
+        self.assertEqual(angles(p, q), Polynomial([Ratio(-1, 2), 1]))
+        self.assertEqual(pieces(p, q)["q"], filter_of(3, [(0, 0, 1)]))
+        self.assertEqual([item.text() for item in traces(p, q)], ["3", "1", "2", "1/2", "1/4", "1/8"])
+        pair = pair_of({"q": 1}, [Ratio(1, 2)])
+        self.assertEqual(angles(pair[0], pair[1]), Polynomial([Ratio(-9, 25), 1]))
+        self.assertEqual((alike(pair, (p, q)), unlike(pair, (p, q))), (False, 3))
+        self.assertIs(alike(pair, turned(pair, turn_table(3, 0, 2, 3))), True)
+        self.assertEqual(pair_of({"p": 2}, [])[0].trace(), 2)
+
+    def test_bounds(self):
+        formula = Formula.read("p + q - pq - qp")
+        found = [[term.text() for term in polynomial.terms()] for polynomial in shape(formula)]
+        self.assertEqual((found, never_negative(formula)), ([["2", "-2"], ["1", "-2", "1"]], True))
+        p, q, beam = counter(Formula.read("pq + qp"))
+        self.assertTrue(reading(Formula.read("pq + qp"), p, q, beam) < 0)
+        found = at_most(Formula.read("pq + qp"), 2), strength_at_most(Formula.read("pq"), Ratio(99, 100))
+        found += at_most(Formula.read("-pq - qp"), Ratio(1, 4)), at_most(Formula.read("-pq - qp"), Ratio(6, 25))
+        self.assertEqual(found, (True, False, True, False))
+        with self.assertRaises(NotMirror):
+            shape(Formula.read("pq"))
 
 
 if __name__ == "__main__":

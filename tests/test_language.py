@@ -35,6 +35,20 @@ def bound_names(tree):
     return found
 
 
+def bound_at_module_level(body):
+    for item in body:
+        if isinstance(item, ast.Assign):
+            yield item.targets[0].id
+        elif hasattr(item, "name"):
+            yield item.name
+
+
+def imported_files(path):
+    tree = ast.parse(path.read_text(encoding="utf-8"))
+    modules = [node.module for node in tree.body if isinstance(node, ast.ImportFrom) and node.module not in LIBRARY]
+    return {FOLDER / (module.removeprefix("filterorders.") + ".py") for module in modules}
+
+
 class LanguageTest(unittest.TestCase):
     def each(self):
         for path in FILES:
@@ -75,7 +89,26 @@ class LanguageTest(unittest.TestCase):
                     else:
                         source = FOLDER / (node.module.removeprefix("filterorders.") + ".py")
                         defined = ast.parse(source.read_text(encoding="utf-8")).body
-                        self.assertLessEqual(names, {item.name for item in defined if hasattr(item, "name")})
+                        self.assertLessEqual(names, set(bound_at_module_level(defined)))
+
+    def test_no_two_files_import_from_each_other(self):
+        reached = {path: imported_files(path) for path in FILES}
+        for _ in FILES:
+            reached = {path: files.union(*[reached[file] for file in files]) for path, files in reached.items()}
+        self.assertEqual([path for path in FILES if path in reached[path]], [])
+
+    def test_each_name_is_bound_once(self):
+        for _, _, tree in self.each():
+            names = list(bound_at_module_level(tree.body))
+            names += [alias.name for node in tree.body if isinstance(node, ast.ImportFrom) for alias in node.names]
+            self.assertEqual(len(names), len(set(names)))
+
+    def test_what_classes_that_compare_bar(self):
+        for _, _, tree in self.each():
+            for node in ast.walk(tree):
+                self.assertNotIsInstance(node, (ast.GeneratorExp, ast.Yield, ast.YieldFrom))
+                if isinstance(node, ast.Call) and isinstance(node.func, ast.Attribute):
+                    self.assertNotEqual(node.func.attr, "sort")
 
     def test_no_name_hides_a_builtin_or_an_import(self):
         for _, _, tree in self.each():
