@@ -9,26 +9,40 @@ from filterorders.roots import angle_in, cells, nowhere_below
 from filterorders.tables import check_filters, plane, value
 
 
-def reading(formula, p, q, beam):
-    """The sum of the products of a beam's numbers with those to which the value sends it."""
+def checked_beam(p, q, beam):
+    """The Ratios of a beam; raises an error unless p and q are filters of its length."""
     check_filters(p, q)
     numbers = beam_of(beam, len(p))
     if all([number == 0 for number in numbers]):
         raise BadBeam()
+    return numbers
+
+
+def reading(formula, p, q, beam):
+    """The sum of the products of a beam's numbers with those to which the value sends it."""
+    numbers = checked_beam(p, q, beam)
     return inner(numbers, value(formula, p, q).sent(numbers))
+
+
+def plane_factors(formula):
+    """What the unit table, p, q, pq and qp are multiplied by in the value on a plane.
+
+    These are polynomials in the angle number of the plane.
+    """
+    terms = formula.terms()
+    # On a plane with the angle number t, pqp is t p and qpq is t q.
+    return (
+        Polynomial([terms.get("", 0)]), _factor_of(terms, "pq", 1), _factor_of(terms, "qp", 1),
+        _factor_of(terms, "pq", 2), _factor_of(terms, "qp", 2),
+    )
 
 
 def shape(formula):
     """The trace and the determinant of the value on a plane, polynomials in its angle number."""
     if not formula.is_mirror():
         raise NotMirror()
-    terms = formula.terms()
-    # On a plane with the angle number t, pqp is t p and qpq is t q. So the
-    # value is constant + ps p + qs q + mixed (pq + qp).
-    constant = Polynomial([terms.get("", 0)])
-    ps = _factor_of(terms, "pq", 1)
-    qs = _factor_of(terms, "qp", 1)
-    mixed = _factor_of(terms, "pq", 2)
+    # In a formula that is its own mirror, pq and qp are multiplied by the same.
+    constant, ps, qs, mixed, _ = plane_factors(formula)
     angle_number = Polynomial([0, 1])
     trace = ps + qs + angle_number * mixed * Polynomial([2])
     determinant = (ps * qs - angle_number * mixed * mixed) * Polynomial([1, -1])

@@ -5,6 +5,8 @@ from filterorders.errors import BadRoot, BadStretch, ZeroPolynomial
 from filterorders.polynomials import Polynomial, whole_terms
 from filterorders.ratios import Ratio, as_ratio, sign
 
+HALVINGS = 32
+
 
 class Root:
     """The only root of a polynomial from one number to another.
@@ -179,6 +181,23 @@ def _halved(terms, side, low, high):
 
 def _compared(one, other):
     """1, 0 or -1 if the first root is greater, equal or less."""
+    terms, others = whole_terms(one.polynomial), whole_terms(other.polynomial)
+    side, far_side = sign_at(terms, one.low), sign_at(others, other.low)
+    low, high = one.low, one.high
+    far_low, far_high = other.low, other.high
+    # Bounds that are a little nearer tell most roots apart, and much faster
+    # than the sign of a polynomial at a root does.
+    for _ in range(HALVINGS):
+        if high < far_low:
+            return -1
+        if far_high < low:
+            return 1
+        low, high = _halved(terms, side, low, high)
+        far_low, far_high = _halved(others, far_side, far_low, far_high)
+    return _compared_by_signs(one, other)
+
+
+def _compared_by_signs(one, other):
     if one.against(other.low) < 0:
         return -1
     if one.against(other.high) > 0:
@@ -223,11 +242,13 @@ def _merged(marks, others):
     found = []
     at = 0
     for mark in marks:
-        while at < len(others) and others[at] < mark:
-            found.append(others[at])
-            at = at + 1
-        if at < len(others) and others[at] == mark:
-            at = at + 1
+        side = -1
+        while at < len(others) and side < 0:
+            side = _compared(others[at], mark)
+            if side < 0:
+                found.append(others[at])
+            if side <= 0:
+                at = at + 1
         found.append(mark)
     return found + others[at:]
 

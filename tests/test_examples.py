@@ -2,11 +2,15 @@
 
 import unittest
 
+from filterorders.again import enough_rounds, greatest_angle, rest_at_most, rounds, slow_beam
 from filterorders.bounds import at_most, counter, never_negative, reading, shape, strength_at_most
-from filterorders.errors import BadRoot, BadText, ByZero, NotMirror
+from filterorders.desk import Desk
+from filterorders.errors import BadAnswer, BadRoot, BadText, ByZero, Never, NotMirror
+from filterorders.facts import Facts
 from filterorders.formulas import Formula, opposite
 from filterorders.pieces import alike, angles, counts, pair_of, pieces, traces, turn_table, turned, unlike
 from filterorders.polynomials import Polynomial, common, single
+from filterorders.questions import at_least, chance_at_least, less, outcomes, plain_row, row_formula, same_chance, share
 from filterorders.ratios import Ratio, as_ratio, sign
 from filterorders.roots import Root, angle, cells, nowhere_below, root_count, roots
 from filterorders.tables import Table, filter_of, is_filter, joined, meet, parting, plane, same, value
@@ -94,6 +98,54 @@ class ExamplesTest(unittest.TestCase):
         self.assertEqual(found, (True, False, True, False))
         with self.assertRaises(NotMirror):
             shape(Formula.read("pq"))
+
+    def test_questions(self):
+        p, q = plane(Ratio(1, 2))
+        found = share("pq", p, q, (1, 0)).text(), share("pQP", p, q, (1, 0)).text(), share("", p, q, [1, 2]) == 1
+        self.assertEqual(found, ("9/25", "144/625", True))
+        found = plain_row("ppQP"), plain_row("pqP"), plain_row("pqQp"), row_formula("pQ") == Formula({"p": 1, "pqp": -1})
+        self.assertEqual(found, (("p", 1, 1), ("p", 1, 1), None, True))
+        found = at_least("pq", "pqp"), less("pq", "pqp"), at_least("pq", "qp"), same_chance(["pq", "PQ"], ["qp", "QP"])
+        self.assertEqual(found, (True, None, False, True))
+        found = outcomes("qp"), chance_at_least(["p"], ["pq", "pQp"]), chance_at_least(["pq", "Pq"], ["q"])
+        self.assertEqual(found, (["qp", "qP", "Qp", "QP"], True, False))
+        self.assertEqual(outcomes("pq"), ["pq", "pQ", "Pq", "PQ"])
+        with self.assertRaises(BadAnswer) as caught:
+            share("px", p, q, (1, 0))
+        self.assertEqual(caught.exception.answer, "x")
+
+    def test_facts(self):
+        alike_orders = Facts(nothing=[Formula.read("pq - qp")])
+        found = alike_orders.lines(), alike_orders.stretches(), alike_orders.verdict(Formula.read("pq - pqp"))
+        found += (alike_orders.allows(Ratio(1, 2)),)
+        self.assertEqual(found, (["both", "p", "q", "none"], [], "sure", False))
+        half = Facts(never_negative=[Formula.read("-p + 2 pqp")], not_nothing=[Formula.read("p")])
+        found = half.lines(), half.allows(Ratio(1, 2)), half.allows(Ratio(1, 3)), half.verdict(Formula.read("pq"))
+        found += (half.verdict(Formula.read("p - q")),)
+        self.assertEqual(found, (["both", "q", "none"], True, False, "barred", "open"))
+        (first, has_first, last, has_last), = half.stretches()
+        self.assertEqual((first.against(Ratio(1, 2)), has_first, last == 1, has_last), (0, True, True, False))
+        found = half.model(Formula.read("pq"), True), len(half.model(Formula.read("p - q"), True)) > 0
+        found += (Facts(nothing=[Formula.read("1")]).clashes(),)
+        self.assertEqual(found, (None, True, True))
+
+    def test_again(self):
+        p, q = filter_of(2, [(1, 0)]), filter_of(2, [(1, 1)])
+        found = rounds(p, q, 2) == Table([[Ratio(1, 4), Ratio(1, 4)], [0, 0]]), greatest_angle(p, q).against(Ratio(1, 2))
+        self.assertEqual(found + (greatest_angle(p, p),), (True, 0, None))
+        found = rest_at_most(p, q, 2, Ratio(1, 8)), rest_at_most(p, q, 2, Ratio(1, 9)), enough_rounds(p, q, Ratio(1, 100), 9)
+        self.assertEqual(found + (enough_rounds(p, q, 0, 5),), (True, False, 4, None))
+        self.assertEqual((rest_at_most(p, p, 1, 0), slow_beam(p, q, 1, 1)), (True, None))
+
+    def test_desk(self):
+        desk = Desk(filter_of(2, [(1, 0)]), filter_of(2, [(1, 1)]), (1, 0))
+        found = desk.sure(), desk.ask("q").text(), desk.beam() == [Ratio(1, 2), Ratio(1, 2)], desk.chance("Pq").text(), desk.sure()
+        self.assertEqual(found, ("p", "1/2", True, "1/4", "q"))
+        self.assertEqual((desk.supposed("P", "Q").text(), len(desk), desk.answers(), desk.share().text()), ("1/2", 1, "q", "1/2"))
+        self.assertEqual(desk.text(), "2\n1 0\n0 0\n1/2 1/2\n1/2 1/2\n1 0\nq")
+        with self.assertRaises(Never) as caught:
+            desk.ask("Q")
+        self.assertEqual(caught.exception.answer, "Q")
 
 
 if __name__ == "__main__":

@@ -3,7 +3,7 @@
 import inspect
 import unittest
 
-from filterorders import bounds, formulas, pieces, polynomials, ratios, roots, tables
+from filterorders import again, bounds, desk, facts, formulas, pieces, polynomials, questions, ratios, roots, tables
 
 FUNCTIONS = {
     ratios: {"as_ratio": "given", "sign": "number"},
@@ -26,6 +26,16 @@ FUNCTIONS = {
         "reading": "formula p q beam", "shape": "formula", "never_negative": "formula", "counter": "formula",
         "at_most": "formula number", "strength_at_most": "formula number",
     },
+    questions: {
+        "share": "row p q beam", "row_formula": "row", "plain_row": "row", "same_share": "row other", "at_least": "row other",
+        "less": "row other", "outcomes": "questions", "chance": "rows p q beam", "chance_formula": "rows",
+        "same_chance": "rows others", "chance_at_least": "rows others", "parted_chance": "rows others", "chance_less": "rows others",
+    },
+    again: {
+        "rounds": "p q n", "greatest_angle": "p q", "rest_at_most": "p q n share", "slow_beam": "p q n share",
+        "enough_rounds": "p q share most",
+    },
+    desk: {"read_desk": "text"},
 }
 METHODS = {
     ratios.Ratio: {
@@ -52,8 +62,24 @@ METHODS = {
         "__add__": "self other", "__sub__": "self other", "__mul__": "self other", "mirror": "self", "trace": "self",
         "sent": "self beam",
     },
+    facts.Facts: {
+        "__init__": "self nothing never_negative not_nothing somewhere_negative", "lines": "self", "allows": "self number",
+        "clashes": "self", "verdict": "self formula sign_only", "model": "self formula holds sign_only", "stretches": "self",
+    },
+    desk.Desk: {
+        "__init__": "self p q beam", "ask": "self answer", "__len__": "self", "answers": "self", "beam": "self", "share": "self",
+        "chance": "self row", "sure": "self", "undo": "self", "redo": "self", "trial": "self", "supposed": "self row other",
+        "text": "self",
+    },
 }
-PROPERTIES = {ratios.Ratio: ["top", "bottom"], roots.Root: ["polynomial", "low", "high"]}
+PROPERTIES = {
+    ratios.Ratio: ["top", "bottom"], roots.Root: ["polynomial", "low", "high"],
+    facts.Facts: ["nothing", "never_negative", "not_nothing", "somewhere_negative"],
+}
+BY_NAME_ALONE = {
+    facts.Facts.__init__: ["nothing", "never_negative", "not_nothing", "somewhere_negative"], facts.Facts.verdict: ["sign_only"],
+    facts.Facts.model: ["sign_only"],
+}
 
 
 def names_of(function):
@@ -75,6 +101,16 @@ class InterfaceTest(unittest.TestCase):
                     self.assertIn(name, vars(made))
                     self.assertEqual(names_of(getattr(made, name)), arguments)
 
+    def test_arguments_by_name_alone(self):
+        functions = [function for functions in FUNCTIONS for function in vars(functions).values() if inspect.isfunction(function)]
+        functions += [getattr(made, name) for made, methods in METHODS.items() for name in methods]
+        for function in functions:
+            found = [item.name for item in inspect.signature(function).parameters.values() if item.kind == item.KEYWORD_ONLY]
+            self.assertEqual(found, BY_NAME_ALONE.get(function, []))
+        for function, names in BY_NAME_ALONE.items():
+            wanted = False if names == ["sign_only"] else ()
+            self.assertEqual([inspect.signature(function).parameters[name].default for name in names], [wanted] * len(names))
+
     def test_properties(self):
         for made, names in PROPERTIES.items():
             for name in names:
@@ -82,6 +118,7 @@ class InterfaceTest(unittest.TestCase):
 
     def test_classes_stand_in_their_files(self):
         files = [(ratios, "Ratio"), (polynomials, "Polynomial"), (roots, "Root"), (formulas, "Formula"), (tables, "Table")]
+        files += [(facts, "Facts"), (desk, "Desk")]
         for module, name in files:
             self.assertEqual(getattr(module, name).__module__, module.__name__)
 

@@ -10,7 +10,7 @@ README = pathlib.Path(__file__).resolve().parent.parent / "README.md"
 class ReadmeTest(unittest.TestCase):
     def test_the_examples(self):
         found = doctest.testfile(str(README), module_relative=False)
-        self.assertGreater(found.attempted, 30)
+        self.assertGreater(found.attempted, 60)
         self.assertEqual(found.failed, 0)
 
 

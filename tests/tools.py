@@ -105,3 +105,71 @@ def some_filter(source, length, many=None, number=small_number):
 def some_formula(source, many=5, number=small_number, longest=6):
     rows = [row for row in ROWS if len(row) <= longest]
     return Formula({row: ratio(number(source)) for row in source.sample(rows, min(many, len(rows)))})
+
+
+def passed_on(answer, p, q, beam):
+    """What the filter of an answer leaves of a beam, as Fractions."""
+    rows = items_of(p if answer in "pP" else q)
+    sent = [sum(left * Fraction(right) for left, right in zip(row, beam)) for row in rows]
+    return sent if answer in "pq" else [before - after for before, after in zip(beam, sent)]
+
+
+def strength(beam):
+    return sum(Fraction(item) * Fraction(item) for item in beam)
+
+
+def share_of(row, p, q, beam):
+    """The share of a row as a Fraction, straight from its definition."""
+    start = [fraction(item) if isinstance(item, Ratio) else Fraction(item) for item in beam]
+    left = start
+    for answer in row:
+        left = passed_on(answer, p, q, left)
+    return strength(left) / strength(start)
+
+
+def value_at(formula, turn):
+    """The value on the plane of an angle number, which may be any Fraction, but with stretched coordinates.
+
+    The stretching makes all numbers rational; it keeps the trace, the determinant and zeros.
+    """
+    filters = {"p": [[1, 0], [0, 0]], "q": [[turn, 1], [turn * (1 - turn), 1 - turn]]}
+    total = [[Fraction(0)] * 2 for _ in range(2)]
+    for row, number in formula.terms().items():
+        made = unit_rows(2)
+        for letter in row:
+            made = product(made, filters[letter])
+        total = sum_of(total, made, fraction(number))
+    return total
+
+
+def is_nothing(rows):
+    return all(item == 0 for row in rows for item in row)
+
+
+def is_never_negative(rows):
+    """Whether a table of one or two rows, given as Fractions, has no reading below 0."""
+    if len(rows) == 1:
+        return rows[0][0] >= 0
+    (left, above), (below, right) = rows
+    return left + right >= 0 and left * right - above * below >= 0
+
+
+def fraction_rows(formula, p, q):
+    return value_rows({row: fraction(number) for row, number in formula.terms().items()}, p, q)
+
+
+def has_no_reading_below_0(rows):
+    """Whether a table that is its own mirror, given as Fractions, has no reading below 0: by elimination."""
+    rest = [list(row) for row in rows]
+    while rest:
+        if any(row[at] < 0 for at, row in enumerate(rest)):
+            return False
+        places = [at for at, row in enumerate(rest) if row[at] > 0]
+        if not places:
+            return is_nothing(rest)
+        pivot = places[0]
+        others = [at for at in range(len(rest)) if at != pivot]
+        rest = [
+            [rest[at][to] - rest[at][pivot] * rest[pivot][to] / rest[pivot][pivot] for to in others] for at in others
+        ]
+    return True
